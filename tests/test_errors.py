@@ -30,6 +30,7 @@ class ErrorTests(unittest.TestCase):
         if field is None:
             self.assertEqual(vars(kind("why")), {})
             return
+        self.assertEqual(vars(kind()), {field: None})
         for value in (0, 7, None, "h1", ["any", ("thing",)], 10 ** 399):
             self.assertEqual(vars(kind(value)), {field: value})
             self.assertEqual(vars(kind(**{field: value})), {field: value})
