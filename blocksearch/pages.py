@@ -1,8 +1,8 @@
 """Pages: a number and a text of words."""
 
-from blocksearch.errors import NoNumber, NoWord
+from blocksearch.errors import NoNumber, NoPages
 from blocksearch.wholes import is_within
-from blocksearch.words import is_word, words_of
+from blocksearch.words import check_word, words_of
 
 MOST_NUMBER = 9999
 
@@ -11,8 +11,7 @@ class Page:
     """A page: its number, and its words in turn."""
 
     def __init__(self, number, text=""):
-        if not is_within(number, 1, MOST_NUMBER):
-            raise NoNumber("this is no number of a page")
+        check_page_number(number)
         self.number = number
         self.in_turn = tuple(words_of(text))
 
@@ -34,10 +33,26 @@ class Page:
 
     def places(self, word):
         """The rising list of the places at which a word stands."""
-        if not is_word(word):
-            raise NoWord("this is no word")
+        check_word(word)
         return [at for at, one in enumerate(self.in_turn) if one == word]
 
     def often(self, word):
         """How often a word stands in the page."""
         return len(self.places(word))
+
+
+def check_page_number(number):
+    """Refuse what is no number of a page."""
+    if not is_within(number, 1, MOST_NUMBER):
+        raise NoNumber("this is no number of a page")
+
+
+def check_pages(pages, *, least, most):
+    """Refuse what is no list of pages of unlike numbers, at least and at most so many."""
+    if not isinstance(pages, list) or not least <= len(pages) <= most:
+        raise NoPages(None)
+    ahead = set()
+    for at, page in enumerate(pages):
+        if not isinstance(page, Page) or page.number in ahead:
+            raise NoPages(at)
+        ahead.add(page.number)

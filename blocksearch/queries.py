@@ -7,6 +7,8 @@ from blocksearch.words import are_words
 MOST_FAR = 20
 MOST_DEEP = 5
 MOST_ASKED = 12
+MOST_PHRASED = 5
+MOST_JOINED = 4
 
 
 def is_query(thing):
@@ -14,10 +16,15 @@ def is_query(thing):
     return is_built(thing, MOST_DEEP) and len(words_in(thing)) <= MOST_ASKED
 
 
-def wanted(query):
-    """The list of the words that are wanted by a query."""
+def check_query(query):
+    """Refuse what is no query."""
     if not is_query(query):
         raise NoQuery("this is no query")
+
+
+def wanted(query):
+    """The list of the words that are wanted by a query."""
+    check_query(query)
     return words_in(query, only_wanted=True)
 
 
@@ -30,11 +37,11 @@ def is_built(thing, deep):
     if kind == "word":
         return len(parts) == 1 and are_words(parts)
     if kind == "phrase":
-        return 2 <= len(parts) <= 5 and are_words(parts)
+        return 2 <= len(parts) <= MOST_PHRASED and are_words(parts)
     if kind == "near":
         return len(parts) == 3 and is_within(parts[0], 1, MOST_FAR) and are_words(parts[1:])
     if kind in ("and", "or"):
-        return 2 <= len(parts) <= 4 and are_built(parts, deep - 1)
+        return 2 <= len(parts) <= MOST_JOINED and are_built(parts, deep - 1)
     return kind == "but" and len(parts) == 2 and are_built(parts, deep - 1)
 
 

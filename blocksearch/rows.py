@@ -1,9 +1,9 @@
 """Rows: the entries of a word, cut in blocks that are coded texts with heads."""
 
 from blocksearch.codes import check_entries, code_entries, decode_entries
-from blocksearch.errors import NoEntries, NoLengths, NoSize, NoWord
+from blocksearch.errors import NoEntries, NoLengths, NoSize
 from blocksearch.wholes import is_within
-from blocksearch.words import MOST_WORDS, is_word
+from blocksearch.words import MOST_WORDS, check_word
 
 SIZE = 4
 MOST_SIZE = 8
@@ -36,8 +36,7 @@ class Row:
     """A word, and the entries of the pages that have it."""
 
     def __init__(self, word, entries, lengths, *, size=SIZE):
-        if not is_word(word):
-            raise NoWord("this is no word")
+        check_word(word)
         check_entries(entries)
         check_lengths(lengths)
         check_size(size)

@@ -109,6 +109,11 @@ def check_number(slot):
         raise NoNumber("this is no whole number")
 
 
+def places_at(walker, slot):
+    """The places of a slot that is not behind the walker's back; none if the row hasn't the slot."""
+    return walker.places() if walker.seek(slot) == slot else ()
+
+
 def common(rows):
     """The rising list of the slots that all rows of a list have."""
     walkers = [Walker(row) for row in rows]

@@ -1,6 +1,6 @@
 """Words, and texts of words with one blank between each two."""
 
-from blocksearch.errors import NoText
+from blocksearch.errors import NoText, NoWord
 
 MOST_LETTERS = 12
 MOST_WORDS = 120
@@ -16,6 +16,12 @@ def is_word(thing):
 def are_words(things):
     """Whether each of several things is a word."""
     return all([is_word(thing) for thing in things])
+
+
+def check_word(word):
+    """Refuse what is no word."""
+    if not is_word(word):
+        raise NoWord("this is no word")
 
 
 def words_of(text):

@@ -28,7 +28,8 @@ BARRED_NAMES = set(
     " copyright credits delattr dir eval exec exit gc getattr globals hasattr help id importlib license locals"
     " methodcaller os quit setattr type vars sys".split()
 )
-BARRED_NODES = (ast.GeneratorExp, ast.Global, ast.AsyncFunctionDef, ast.Div, ast.AnnAssign, ast.Import, ast.Pow)
+BARRED_NODES = (ast.GeneratorExp, ast.Global, ast.AsyncFunctionDef, ast.Div, ast.AnnAssign, ast.Import,
+                ast.Try, ast.Match, ast.With, ast.Yield, ast.YieldFrom, ast.Nonlocal, ast.NamedExpr)
 SPECIAL = {"__init__", "__eq__", "__repr__", "__str__", "__len__"}
 
 
@@ -154,6 +155,31 @@ class StatementTests(unittest.TestCase):
             if isinstance(node.value, str):
                 self.assertNotIn("%", node.value, name)
 
+    def test_powers_have_small_literal_exponents(self):
+        for name, node in nodes(ast.BinOp):
+            if isinstance(node.op, ast.Pow):
+                self.assertIsInstance(node.right, ast.Constant, name)
+                self.assertIn(node.right.value, range(65), name)
+
+    def test_sets_stand_where_they_may(self):
+        for name, node in nodes(ast.FunctionDef):
+            stored = [one.targets[0].id for one in ast.walk(node)
+                      if isinstance(one, ast.Assign) and ast.unparse(one.value) == "set()"]
+            self.assertEqual(len(stored), len(set(stored)), name)
+            for one in ast.walk(node):
+                if isinstance(one, (ast.For, ast.comprehension)):
+                    self.assertNotIn(ast.unparse(one.iter), stored, name)
+                if isinstance(one, ast.Call):
+                    for given in one.args:
+                        self.assertNotIn(ast.unparse(given), stored, name)
+                if isinstance(one, ast.Return):
+                    self.assertNotIn(one.value and ast.unparse(one.value), stored, name)
+
+    def test_what_is_iterated_at_once(self):
+        for name, node in nodes(ast.Assign, ast.Return):
+            if isinstance(node.value, ast.Call) and isinstance(node.value.func, ast.Name):
+                self.assertNotIn(node.value.func.id, ("zip", "enumerate", "reversed", "range"), name)
+
     def test_double_underscore_methods(self):
         for one in classes():
             for node in one.body:
@@ -161,6 +187,9 @@ class StatementTests(unittest.TestCase):
                     self.assertIn(node.name, SPECIAL)
                 if isinstance(node, ast.FunctionDef) and node.name == "__len__":
                     self.assertRegex(ast.unparse(node.body[-1]), r"^return len\(")
+                if isinstance(node, ast.FunctionDef) and node.name in ("__str__", "__repr__"):
+                    for told in [one for one in ast.walk(node) if isinstance(one, ast.Return)]:
+                        self.assertRegex(ast.unparse(told), r"^return (f['\"]|['\"]|str\(|repr\()")
 
 
 if __name__ == "__main__":

@@ -4,10 +4,9 @@ import unittest
 
 from blocksearch.errors import NoQuery
 from blocksearch.queries import is_query, wanted
-from things import NO_TEXTS, NO_WHOLES, NO_WORDS
+from things import NO_QUERIES, NO_WHOLES, NO_WORDS
 
 A, B, C, D, E = [("word", letter) for letter in "abcde"]
-NO_QUERIES = NO_TEXTS + NO_WORDS + NO_WHOLES + [("a",), ("word", ("word", "a")), (("word", "a"),), "word", "word a"]
 
 
 def deep(kind, many):

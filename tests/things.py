@@ -14,3 +14,8 @@ WORDS = ["a", "z", "ab", "word", "m" * 11, "a" * 12, "z" * 12, "abcdefghijkl", "
 NO_WHOLES = [
     True, False, None, "", "1", "a", [], [1], [[1]], (), (1,), ((1,),), [None], (True,), "7 a",
 ]
+
+NO_QUERIES = NO_TEXTS + NO_WORDS + NO_WHOLES + [
+    ("a",), ("word", ("word", "a")), (("word", "a"),), "word", "word a", ["word", "a"], ("word", "A"), ("phrase", "a"),
+    ("near", True, "a", "b"), ("and", ("word", "a")), ("but", ("word", "a"), ["word", "b"]),
+]
