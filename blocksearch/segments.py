@@ -53,8 +53,7 @@ class Segment:
 
     def page(self, slot):
         """The page at a slot, put together from the rows."""
-        if not is_within(slot, 0, len(self) - 1):
-            raise NoSlot("this is no slot of the segment")
+        check_slot(slot, self)
         words = [""] * self.slot_lengths[slot]
         for word in self.rows:
             for place in places_at(Walker(self.rows[word]), slot):
@@ -64,6 +63,12 @@ class Segment:
     def kept(self):
         """All that the segment keeps."""
         return self.size, self.slot_numbers, self.slot_lengths, self.rows
+
+
+def check_slot(slot, segment):
+    """Refuse what is no slot of a segment."""
+    if not is_within(slot, 0, len(segment) - 1):
+        raise NoSlot("this is no slot of the segment")
 
 
 def rows_of(pages, size):

@@ -1,5 +1,7 @@
 """Pages, queries and shelves by a seed, and the plain reading of what a query means."""
 
+from fractions import Fraction
+
 from blocksearch.pages import Page
 from blocksearch.segments import Segment
 
@@ -79,3 +81,55 @@ def matches_plainly(query, page):
     if query[0] == "but":
         return matches_plainly(query[1], page) > matches_plainly(query[2], page)
     return places(query, page) != []
+
+
+def wanted_plainly(query):
+    if query[0] in ("and", "or"):
+        return [word for part in query[1:] for word in wanted_plainly(part)]
+    if query[0] == "but":
+        return wanted_plainly(query[1])
+    return list(query[2:] if query[0] == "near" else query[1:])
+
+
+def standing(shelf):
+    """The pages that stand on a shelf, in the order in which they stand there."""
+    return [segment.page(slot) for segment, gone in shelf for slot in range(len(segment)) if slot not in gone]
+
+
+def figures_plainly(pages, word):
+    """What point 20 tells of pages that stand: N, L, d."""
+    return len(pages), sum(len(page) for page in pages), len([page for page in pages if word in page.words()])
+
+
+def share_plainly(pages, word, often, length):
+    many, words, holders = figures_plainly(pages, word)
+    if often == 0 or holders == 0:
+        return Fraction(0)
+    return Fraction(many + 1, holders) * Fraction(often * words, often * words + words + length * many)
+
+
+def rank_plainly(pages, query, page):
+    words = page.words()
+    shares = [share_plainly(pages, word, words.count(word), len(words)) for word in wanted_plainly(query)]
+    return sum(shares, Fraction(0))
+
+
+def best_by_sorting(pages, query, k, among=None):
+    """The best as tuples (number, rank): of all pages, or of some of them, by the figures of all."""
+    ranked = [(-rank_plainly(pages, query, page), page.number)
+              for page in (pages if among is None else among) if matches_plainly(query, page)]
+    return [(number, -rank) for rank, number in sorted(ranked)[:k]]
+
+
+def bound_plainly(pages, query, segment, slot):
+    """What point 27 tells of a slot, by the pages of the segment, cut in blocks anew."""
+    inside = [segment.page(one) for one in range(len(segment))]
+    bounds = Fraction(0)
+    for word in wanted_plainly(query):
+        slots = [one for one, page in enumerate(inside) if word in page.words()]
+        for at in range(0, len(slots), segment.size):
+            cut = slots[at:at + segment.size]
+            if cut[0] <= slot <= cut[-1]:
+                most = max(inside[one].words().count(word) for one in cut)
+                bounds += share_plainly(pages, word, most, min(len(inside[one]) for one in cut))
+    return bounds

@@ -52,7 +52,8 @@ def bound_names(tree):
 
 
 def imported_names(tree):
-    return [alias.asname or alias.name for node in tree.body if isinstance(node, ast.ImportFrom) for alias in node.names]
+    imports = [node for node in tree.body if isinstance(node, ast.ImportFrom)]
+    return [alias.asname or alias.name for node in imports for alias in node.names]
 
 
 def classes():

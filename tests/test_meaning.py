@@ -157,7 +157,8 @@ class RefusalTests(unittest.TestCase):
     def test_what_is_no_query(self):
         chance = random.Random(4)
         wrong = [("and", A), ("but", A, B, C), ("and", A, A, A, A, A), ("near", 0, "a", "b"), ("near", 21, "a", "b"),
-                 ("phrase", "a"), ("phrase", *"aaaaaa"), ("or", ("and", *[A] * 4), ("phrase", *"abcde"), B, ("and", C, B, A))]
+                 ("phrase", "a"), ("phrase", *"aaaaaa"),
+                 ("or", ("and", *[A] * 4), ("phrase", *"abcde"), B, ("and", C, B, A))]
         for thing in NO_QUERIES + wrong:
             with self.assertRaises(NoQuery):
                 matches(thing, chance.choice([PAGE, EMPTY]))

@@ -101,7 +101,8 @@ class ShowTests(unittest.TestCase):
             self.assertEqual(read(text), query)
 
     def test_what_is_no_query(self):
-        for thing in NO_QUERIES + [("and", FIVE, FIVE, B, C, D), ("and", FIVE, FIVE, ("and", A, B, C)), ("but", A, B, C)]:
+        wrong = [("and", FIVE, FIVE, B, C, D), ("and", FIVE, FIVE, ("and", A, B, C)), ("but", A, B, C)]
+        for thing in NO_QUERIES + wrong:
             with self.assertRaises(NoQuery):
                 show(thing)
 
@@ -227,6 +228,9 @@ class ReadTests(unittest.TestCase):
         self.wrong("(((((", 4)
         self.wrong("(a & (a & (a & (a & (a & a)))))", 20)
         self.wrong("((((", 4)
+        third = "(a & a & (a | a | (a & a & (a | a | "
+        self.right(third + "a))))")
+        self.wrong(third + "(a & a)))))", len(third))
 
     def test_a_thirteenth_word(self):
         eleven = '("a b c d e" & "a b c d e" & a & '

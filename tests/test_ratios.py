@@ -123,7 +123,8 @@ class AskTests(unittest.TestCase):
 
     def test_a_ratio_equals_nothing_else(self):
         for ratio in (Ratio(0), Ratio(1), Ratio(7), Ratio(3, 4)):
-            for other in NO_TEXTS + ["", "3/4", "7", (3, 4), 0.75, Fraction(7), Fraction(3, 4), str(ratio), {}, object()]:
+            others = ["", "3/4", "7", (3, 4), 0.75, Fraction(7), Fraction(3, 4), str(ratio), {}, object()]
+            for other in NO_TEXTS + others:
                 self.assertIs(ratio == other, False)
                 self.assertIs(other == ratio, False)
                 self.assertIs(ratio != other, True)

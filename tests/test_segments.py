@@ -64,8 +64,9 @@ class RefusalTests(unittest.TestCase):
         for size in range(1, 9):
             self.assertEqual(Segment(PAGES, size=size).size, size)
         for size in NO_WHOLES + [0, 9, -1, 10 ** 60]:
-            with self.assertRaises(NoSize):
-                Segment(PAGES, size=size)
+            for pages in (PAGES, [Page(1)]):
+                with self.assertRaises(NoSize):
+                    Segment(pages, size=size)
 
     def test_pages_and_size_both_wrong(self):
         for pages in (None, [], PAGES + [None]):
@@ -191,7 +192,8 @@ class OwnTests(unittest.TestCase):
 
         segment = Segment([Page(7, "a b a"), Page(3, "b c")])
         kept = list(parts(list(vars(segment).values())))
-        self.assertFalse([one for one in kept if isinstance(one, Page) or one in ("a b a", "b c", ["b", "c"], ("b", "c"))])
+        texts = ("a b a", "b c", ["b", "c"], ("b", "c"))
+        self.assertFalse([one for one in kept if isinstance(one, Page) or one in texts])
 
     def test_walking_a_row_changes_nothing(self):
         segment = Segment(PAGES, size=1)
@@ -232,7 +234,8 @@ class EqualTests(unittest.TestCase):
 
     def test_other_things(self):
         segment = Segment(PAGES)
-        for other in NO_TEXTS + ["", "a", PAGES, tuple(PAGES), PAGES[0], segment.row("a"), segment.numbers(), {}, object()]:
+        others = ["", "a", PAGES, tuple(PAGES), PAGES[0], segment.row("a"), segment.numbers(), {}, object()]
+        for other in NO_TEXTS + others:
             self.unlike(segment, other)
 
 
