@@ -87,9 +87,9 @@ def add_left(spans, slot):
     spans.append(("left", first, slot))
 
 
-def views_of(figures, query, shelf):
-    """A view of each segment of a shelf."""
-    return [View(figures, query, segment, gone) for segment, gone in shelf]
+def views_of(figures, query):
+    """A view of each segment of the shelf whose figures they are."""
+    return [View(figures, query, segment, gone) for segment, gone in figures.parts]
 
 
 def best_early(shelf, query, *, k=MANY, seen=None):
@@ -97,10 +97,13 @@ def best_early(shelf, query, *, k=MANY, seen=None):
     figures = Figures(shelf)
     check_query(query)
     best = Best(k)
-    # All views are taken first: the def may do what it will to the shelf's lists.
-    views = views_of(figures, query, shelf)
-    spans = [view.early_spans(best, seen) for view in views]
+    spans = put_early(best, figures, query, seen)
     return ("best", query, k, told_values(best), spans)
+
+
+def put_early(best, figures, query, seen):
+    """Put what the early way comes to, by the figures of a shelf, and tell the spans of each segment."""
+    return [view.early_spans(best, seen) for view in views_of(figures, query)]
 
 
 def told_values(best):
@@ -115,7 +118,7 @@ def holds_best(shelf, thing):
         return False
     query, k, told, spans = thing[1:]
     best = Best(k)
-    views = views_of(figures, query, shelf)
+    views = views_of(figures, query)
     for view, row in zip(views, spans):
         for slot in slots_in(row, "seen"):
             view.put_page(slot, best, None)

@@ -77,8 +77,13 @@ def matching_numbers(shelf, query):
     """The rising list of the numbers of all pages that stand on a shelf and match a query."""
     check_shelf(shelf)
     check_query(query)
+    return met_numbers(shelf, query)
+
+
+def met_numbers(parts, query):
+    """The rising list of the numbers of all pages that stand and match, by segments and their gone slots."""
     told = []
-    for segment, gone in shelf:
+    for segment, gone in parts:
         numbers = segment.numbers()
         told.extend([numbers[slot] for slot in met_slots(segment, query) if slot not in gone])
     return sorted(told)

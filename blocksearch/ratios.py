@@ -1,5 +1,6 @@
 """Ratios: exact numbers, a whole one over another, in lowest terms."""
 
+from blocksearch.copies import own_copy
 from blocksearch.errors import NoNumber, NoRatio
 from blocksearch.wholes import is_whole
 
@@ -94,12 +95,3 @@ def figures_of(number):
         texts.append(str(part).zfill(FIGURES_AT_ONCE))
     texts.append(str(rest))
     return ("-" if number < 0 else "") + "".join(reversed(texts))
-
-
-def own_copy(thing):
-    """A thing like this one, with new lists: each told list is the asker's own."""
-    if isinstance(thing, list):
-        return [own_copy(one) for one in thing]
-    if isinstance(thing, tuple):
-        return tuple([own_copy(one) for one in thing])
-    return thing

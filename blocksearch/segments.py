@@ -71,6 +71,16 @@ def check_slot(slot, segment):
         raise NoSlot("this is no slot of the segment")
 
 
+def pages_of(segment):
+    """The list of all pages of a segment, by slots; each row is read once alone."""
+    words = [[""] * length for length in segment.lengths()]
+    for word in segment.words():
+        for slot, places in segment.row(word).entries():
+            for place in places:
+                words[slot][place] = word
+    return [Page(number, " ".join(one)) for number, one in zip(segment.numbers(), words)]
+
+
 def rows_of(pages, size):
     """The row of each word that one of several pages has, the pages by slots."""
     lengths = [len(page) for page in pages]

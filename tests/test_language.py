@@ -29,7 +29,7 @@ BARRED_NAMES = set(
     " methodcaller os quit setattr type vars sys".split()
 )
 BARRED_NODES = (ast.GeneratorExp, ast.Global, ast.AsyncFunctionDef, ast.Div, ast.AnnAssign, ast.Import,
-                ast.Try, ast.Match, ast.With, ast.Yield, ast.YieldFrom, ast.Nonlocal, ast.NamedExpr)
+                ast.Match, ast.With, ast.Yield, ast.YieldFrom, ast.Nonlocal, ast.NamedExpr)
 SPECIAL = {"__init__", "__eq__", "__repr__", "__str__", "__len__"}
 
 
@@ -131,6 +131,13 @@ class NameTests(unittest.TestCase):
         self.assertEqual(read - stored - methods - METHODS, set())
 
 
+    def test_methods_have_no_name_of_a_builtin_values_method(self):
+        taken = {one for kind in (str, int, list, dict, set, bytes, tuple) for one in dir(kind)}
+        stored = {node.attr for name, node in nodes(ast.Attribute) if isinstance(node.ctx, ast.Store)}
+        methods = {node.name for one in classes() for node in one.body if isinstance(node, ast.FunctionDef)}
+        self.assertEqual((stored | methods) & taken - SPECIAL, set())
+
+
 class StatementTests(unittest.TestCase):
     def test_statements_and_expressions_that_are_not_used(self):
         for name, node in nodes(*BARRED_NODES):
@@ -149,6 +156,18 @@ class StatementTests(unittest.TestCase):
         for name, node in nodes(ast.Raise):
             self.assertIsInstance(node.exc, ast.Call, name)
             self.assertIn(node.exc.func.id, errors, name)
+
+    def test_own_errors_alone_are_caught(self):
+        errors = bound_names(trees()["errors"])
+        for name, node in nodes(ast.ExceptHandler):
+            caught = node.type.elts if isinstance(node.type, ast.Tuple) else [node.type]
+            self.assertLessEqual({one.id for one in caught}, set(errors), name)
+            self.assertIsNone(node.name, name)
+
+    def test_a_finally_has_the_plainest_statements_alone(self):
+        for name, node in nodes(ast.Try):
+            for row in node.finalbody:
+                self.assertRegex(ast.unparse(row), r"^self\.\w+( -= \d+|\.append\(\(['\"]\w+['\"], \w+\)\))$", name)
 
     def test_strings_and_numbers(self):
         for name, node in nodes(ast.Constant):
