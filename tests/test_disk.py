@@ -216,9 +216,10 @@ class CrashTests(Case):
 
 class TwinTests(Case):
     def test_a_twin_is_as_the_disk_is(self):
-        disk = disk_of({"a": "old", "b": "2"}, ("a", "new"), "b", ("c", "3"))
+        files, deeds = {"a": "old", "b": "2"}, [("a", "new"), "b", ("c", "3")]
+        disk = disk_of(files, *deeds)
         for picks in itertools.product(range(5), range(2), range(3)):
-            one, other = disk.twin(), disk.twin()
+            one, other = disk.twin(), disk_of(files, *deeds)
             self.assertEqual(told(one), told(disk))
             one.crash(picks=picks)
             other.crash(picks=list(picks))

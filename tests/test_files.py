@@ -2,45 +2,18 @@
 
 import inspect
 import random
-import re
 import unittest
 
-from blocksearch.codes import code_entries, decode_entries
-from blocksearch.errors import NoCode, Torn
+from blocksearch.codes import code_entries
+from blocksearch.errors import Torn
 from blocksearch.files import rows_of, segment_of, segment_rows, whole_text
 from blocksearch.pages import Page
 from blocksearch.segments import Segment
 from plain import some_pages
+from plainfiles import check_plainly, pages_plainly, rows_plainly, segment_rows_plainly, text_plainly
 from things import NO_TEXTS, NO_WHOLES, NO_WORDS
 
 SOME_ROWS = [[], [""], ["a"], ["", ""], ["a", "", "b c ~ "], ["0001:0001"], ["4", "1:1", "a baa"], [" " * 30], ["~" * 9] * 9]
-
-
-def check_plainly(rows):
-    check = 1
-    for row in rows:
-        for sign in row + "\n":
-            check = (31 * check + ord(sign)) % 65521
-    return check
-
-
-def text_plainly(rows):
-    check = hex(check_plainly(rows))[2:]
-    return "0" * (4 - len(str(len(rows)))) + f"{len(rows)}:" + "0" * (4 - len(check)) + check + "\n" + "".join(
-        row + "\n" for row in rows)
-
-
-def rows_plainly(text):
-    """The rows of a whole text, None of a torn one: point 38 word for word."""
-    if not isinstance(text, str) or not re.match(r"[0-9]{4}:[0-9a-f]{4}\n", text):
-        return None
-    body = text[10:]
-    if not re.fullmatch(r"[ -~\n]*", body) or not (body == "" or body[-1] == "\n"):
-        return None
-    rows = body[:-1].split("\n") if body else []
-    if len(rows) != int(text[:4]) or check_plainly(rows) != int(text[5:9], 16) or max(map(len, rows), default=0) > 20000:
-        return None
-    return rows
 
 
 class Case(unittest.TestCase):
@@ -171,38 +144,6 @@ def chance_signs(text, at):
     return [sign for sign in "\n 0af~:Z" if sign != text[at]]
 
 
-def segment_rows_plainly(pages, size):
-    """Point 39 word for word, by the pages' words."""
-    pages = sorted(pages, key=lambda page: page.number)
-    rows = [str(size), " ".join(f"{page.number}:{len(page)}" for page in pages)]
-    for word in sorted({word for page in pages for word in page.words()}):
-        entries = [(slot, tuple(page.places(word))) for slot, page in enumerate(pages) if word in page.words()]
-        blocks = [code_entries(entries[at:at + size]) for at in range(0, len(entries), size)]
-        rows.append(" ".join([word] + blocks))
-    return rows
-
-
-def are_rows_plainly(rows):
-    """Whether things are a segment's own rows: pages are guessed of them, and written anew."""
-    if not isinstance(rows, list) or not all(isinstance(row, str) for row in rows) or len(rows) < 2:
-        return False
-    if not re.fullmatch(r"[1-8]", rows[0]) or not re.fullmatch(r"([0-9]{1,4}:[0-9]{1,3}( |$))+", rows[1]):
-        return False
-    heads = [tuple(map(int, head.split(":"))) for head in rows[1].split()]
-    texts = [["zzz"] * length for number, length in heads]
-    try:
-        for row in rows[2:]:
-            for text in row.split(" ")[1:]:
-                for slot, places in decode_entries(text):
-                    for place in places:
-                        texts[slot][place] = row.split(" ")[0]
-        pages = [Page(number, " ".join(words)) for (number, length), words in zip(heads, texts)]
-    except (NoCode, IndexError, ValueError):
-        return False
-    return 1 <= len({page.number for page in pages}) == len(pages) <= 60 and \
-        segment_rows_plainly(pages, int(rows[0])) == rows
-
-
 def some_segments(seed, many):
     chance = random.Random(seed)
     for _ in range(many):
@@ -212,7 +153,7 @@ def some_segments(seed, many):
 
 class SegmentRowTests(Case):
     def check_rows(self, rows):
-        own = are_rows_plainly(rows)
+        own = pages_plainly(rows) is not None
         if own:
             self.assertEqual(segment_rows(segment_of(rows)), rows)
         else:
