@@ -5,6 +5,7 @@ from blocksearch.meaning import matches
 from blocksearch.pages import check_page_number, check_pages
 from blocksearch.queries import check_query
 from blocksearch.ranks import rank
+from blocksearch.ratios import ratio_of
 from blocksearch.wholes import is_within
 
 MANY = 10
@@ -33,7 +34,9 @@ class Best:
     def put(self, number, ratio):
         """Put a number with a ratio, and tell whether it is held then."""
         at = self.place_for(number, ratio)
-        held = [*self.held[:at], (number, ratio), *self.held[at:]]
+        # An own ratio: what is done to the one that was handed in changes nothing here.
+        one = (number, ratio_of(ratio.top, ratio.bottom))
+        held = [*self.held[:at], one, *self.held[at:]]
         self.held = held[:self.k]
         return at < self.k
 

@@ -93,8 +93,9 @@ def serial_behind(letter, text):
 def kept_files(disk):
     """For each text of a file of the newest head that stands the name of the first such file."""
     newest = newest_set(disk)
+    names = [] if newest is None else newest[1]
     kept = {}
-    for name in [] if newest is None else newest[1]:
+    for name in names:
         kept.setdefault(disk.read(name), name)
     return kept
 

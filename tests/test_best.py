@@ -179,6 +179,13 @@ class PutTests(unittest.TestCase):
         self.assertEqual(best.told(), [(5, HALF), (6, THIRD)])
         self.assertEqual(len(best), 2)
 
+    def test_a_ratio_changed_behind_the_call(self):
+        ratio = Ratio(1, 2)
+        best = filled(2, (7, ratio), (5, THIRD))
+        ratio.top = 0
+        self.assertEqual(best.told(), [(7, HALF), (5, THIRD)])
+        self.assertIs(best.would_hold(9, Ratio(2, 5)), True)
+
     def test_two_bests_know_nothing_of_one_another(self):
         one, other = Best(2), Best(2)
         one.put(5, HALF)
