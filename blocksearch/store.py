@@ -140,19 +140,21 @@ class Store:
         stood = self.stands(number)
         if stood and not anew:
             raise Taken(number)
-        self.check_room(number, stood)
+        self.check_room(number)
         if stood:
             self.let_go(number)
         # An own page: what is done to the one that was handed in changes nothing here.
         self.hand[number] = page_like(page)
 
-    def check_room(self, number, stood):
-        """Refuse a page of a number for which there would be no room when the one that stood is gone."""
+    def check_room(self, number):
+        """Refuse a page of a number for which there would be no room when one that stands has gone."""
+        # A recovered store may have more than the bounds let in: so the others are
+        # counted, whether or not a page of this number goes.
         if len(self.parts) > MOST_SEALED:
             raise Full(MOST_SEALED)
-        if number not in self.hand and len(self.hand) >= MOST_IN_HAND:
+        if len([one for one in self.hand if one != number]) >= MOST_IN_HAND:
             raise Full(MOST_IN_HAND)
-        if not stood and len(self) >= MOST_PAGES:
+        if len([one for one in self.numbers() if one != number]) >= MOST_PAGES:
             raise Full(MOST_PAGES)
 
     def let_go(self, number):

@@ -8,9 +8,11 @@ from blocksearch.commits import deeds_of, play
 from blocksearch.desk import Desk
 from blocksearch.disk import Disk
 from blocksearch.errors import Full, Gone, NoDeed, NoFile, NoNumber, NoSize, NoText, Taken, Torn
+from blocksearch.files import segment_rows, whole_text
 from blocksearch.numerals import number_in
 from blocksearch.pages import Page
 from blocksearch.querytexts import read, show
+from blocksearch.segments import Segment
 from blocksearch.store import Store
 from plain import matches_plainly, some_query
 from things import NO_QUERIES, NO_TEXTS
@@ -227,6 +229,18 @@ class DiskTests(Case):
                    ("recover", "ok"), ("pages", "1,2"), ("hand", "none"), ("log", "none"), ("show 2", "b"),
                    ("commit 99", "ok"), ("files", "h2,s1.0,s1.1"))
         self.assertEqual((desk.store.size, desk.store.sealed()), (4, 2))
+
+    def test_recover_where_more_stand_than_may_be_put(self):
+        desk = Desk()
+        for at in range(3):
+            pages = [Page(60 * at + number, "a") for number in range(1, 61)]
+            desk.disk.write(f"s1.{at}", whole_text(segment_rows(Segment(pages))))
+        desk.disk.write("h1", whole_text(["1", "4", "s1.0", "s1.1", "s1.2"]))
+        self.check(desk, ("recover", "ok"))
+        self.refused(desk, Full, "anew 5 b", many=120)
+        self.refused(desk, Full, "put 500 b", many=120)
+        self.refused(desk, Taken, "put 5 b", number=5)
+        self.check(desk, ("show 5", "a"), ("hand", "none"), ("log", "put!,put!,put!"))
 
     def test_recover_where_nothing_was_committed(self):
         desk = said("put 1 a")

@@ -7,8 +7,11 @@ import unittest
 
 from blocksearch import errors, store as module
 from blocksearch.best import best_plain
+from blocksearch.commits import recovered
+from blocksearch.disk import Disk
 from blocksearch.early import best_early, holds_best
 from blocksearch.errors import Broken, Full, Gone, NoSize, Taken
+from blocksearch.files import segment_rows, whole_text
 from blocksearch.found import matching_numbers
 from blocksearch.pages import Page
 from blocksearch.ranks import Figures, rank
@@ -44,6 +47,25 @@ def eight_sealed(*counts):
     """A store as it may be recovered: of eight segments."""
     shelf = filled(*counts[:7], hand=counts[7]).shelf()
     return store_of(4, shelf)
+
+
+def recovered_of(*counts):
+    """A recovered store with segments of so many pages each, numbered in turn: also more than may be put."""
+    firsts = [1 + sum(counts[:at]) for at in range(len(counts))]
+    rows = [[[number, "a", True] for number in range(first, first + many)] for first, many in zip(firsts, counts)]
+    return recovered_from(rows)
+
+
+def recovered_from(rows, size=4):
+    """A store that is recovered from a disk on which a head stands, its segments as the rows of a plain store."""
+    disk, head = Disk(), ["1", str(size)]
+    for at, row in enumerate(rows):
+        segment = Segment([Page(number, text) for number, text, stands in row], size=size)
+        disk.write(f"s1.{at}", whole_text(segment_rows(segment)))
+        head.append(" ".join([f"s1.{at}"] + [str(slot) for slot, one in enumerate(row) if not one[2]]))
+    disk.write("h1", whole_text(head))
+    disk.flush()
+    return recovered(disk)
 
 
 def told(store):
@@ -191,12 +213,37 @@ class PutTests(Case):
         store = eight_sealed(60, 50, 2, 2, 2, 2, 1, 1)
         self.assertEqual(len(store), 120)
         self.refused(store, Full, 7, lambda: store.put(Page(500)))
-        # More may be recovered than may be put.
-        segments = [Segment(numbered(first, first + 59)) for first in (1, 61, 121)]
-        store = store_of(4, [(segment, []) for segment in segments])
-        self.refused(store, Full, 120, lambda: store.put(Page(500)))
-        store.put(Page(1, "z"), anew=True)
-        self.assertEqual(len(store), 180)
+        store = recovered_of(*[60] * 8)
+        self.refused(store, Full, 7, lambda: store.put(Page(1, "z"), anew=True))
+        store = recovered_of(*[60] * 7)
+        self.refused(store, Full, 120, lambda: store.put(Page(1, "z"), anew=True))
+
+    def test_more_than_a_hundred_and_twenty_recovered(self):
+        for counts in ((60, 60, 1), (60, 60, 2), (60, 60, 60), [60] * 7):
+            store, last = recovered_of(*counts), sum(counts)
+            self.assertEqual(len(store), last)
+            self.refused(store, Full, 120, lambda: store.put(Page(5000)))
+            for number in (1, 60, 61, last):
+                self.refused(store, Taken, number, lambda: store.put(Page(number, "z")))
+                self.refused(store, Full, 120, lambda: store.put(Page(number, "z"), anew=True))
+                self.refused(store, Full, 120, lambda: store.put(Page(number), anew=True))
+
+    def test_dropped_to_a_hundred_and_twenty(self):
+        store = recovered_of(60, 60, 3)
+        for number in (1, 70, 122):
+            self.refused(store, Full, 120, lambda: store.put(Page(5, "z"), anew=True))
+            # One that was dropped doesn't stand: put anew, none goes.
+            store.drop(number)
+            self.refused(store, Full, 120, lambda: store.put(Page(number, "z"), anew=True))
+        self.assertEqual(len(store), 120)
+        store.put(Page(5, "z"), anew=True)
+        store.put(Page(5, "y"), anew=True)
+        store.put(Page(123, "z"), anew=True)
+        self.assertEqual((len(store), store.in_hand(), store.page(5)), (120, [5, 123], Page(5, "y")))
+        self.refused(store, Full, 120, lambda: store.put(Page(1)))
+        store.drop(5)
+        store.put(Page(1))
+        self.assertEqual((len(store), store.in_hand()), (120, [1, 123]))
 
     def test_pages_changed_behind_the_call(self):
         store = Store()
@@ -258,6 +305,17 @@ class PutAllTests(Case):
         store.put_all([Page(2, "x"), Page(5, "y"), Page(7, "z")], anew=True)
         self.assertEqual((store.in_hand(), store.shelf()[0][1]), ([2, 4, 5, 7], [1]))
         self.assertEqual([str(store.page(number)) for number in (2, 5, 7)], ["x", "y", "z"])
+
+    def test_anew_where_more_than_a_hundred_and_twenty_stand(self):
+        for counts in ((60, 60, 1), (60, 60, 60)):
+            store = recovered_of(*counts)
+            for pages in ([Page(5, "b")], [Page(5, "b"), Page(6, "b")], [Page(5000), Page(5)]):
+                self.refused(store, Broken, 0, lambda: store.put_all(pages, anew=True))
+            self.assertIsNone(store.put_all([], anew=True))
+        store = recovered_of(60, 60)
+        self.refused(store, Broken, 2, lambda: store.put_all([Page(5, "b"), Page(61, "b"), Page(500)], anew=True))
+        store.put_all([Page(5, "b"), Page(61, "b"), Page(5, "c")], anew=True)
+        self.assertEqual((len(store), store.in_hand(), store.page(5)), (120, [5, 61], Page(5, "c")))
 
     def test_anew_that_breaks_puts_all_back(self):
         store = filled(3, hand=58)
@@ -613,6 +671,38 @@ class HistoryTests(Case):
                 self.check_deed(*some_deed(chance, store, plain, 9))
                 self.check_told(store, plain)
                 self.check_query(chance, store, plain)
+
+    def some_rows(self, chance, many):
+        """Rows of a plain store of which so many pages stand, in three to eight segments, and some are gone."""
+        numbers = chance.sample(range(1, 300), many)
+        segments = chance.randrange(max(3, -(-many // 55)), 9)
+        rows = [[[number, "a b", True] for number in numbers[at::segments]] for at in range(segments)]
+        for row in rows:
+            others = [number for number in range(1, 300) if number not in [one for one, text, stands in row]]
+            row += [[number, "c", False] for number in chance.sample(others, chance.randrange(5))]
+        return [sorted(row) for row in rows]
+
+    def test_histories_of_recovered_stores(self):
+        words = set()
+        for seed in range(40):
+            chance = random.Random(3000 + seed)
+            plain, size = PlainStore(), chance.randrange(1, 9)
+            plain.row = self.some_rows(chance, chance.choice([119, 120, 121, 122, 125, 180, 240]))
+            store = recovered_from(plain.row, size=size)
+            self.check_told(store, plain)
+            for _ in range(50):
+                ahead = plain.numbers()
+                deed, due = some_deed(chance, store, plain, 300)
+                self.check_deed(deed, due)
+                words.add((plain.deeds[-1], due[0] and due[0][0], len(ahead) > 120))
+                if due[0] == ("Full", 120):
+                    words.add(("Full", len(ahead) > 120))
+            self.check_told(store, plain)
+            self.check_query(chance, store, plain)
+        for row in [("Full", False), ("Full", True), (("put", True), None, False), (("put_all", False), "Broken", True),
+                    (("merge", True), None, True), (("drop", True), None, True)]:
+            self.assertIn(row, words)
+        self.assertNotIn((("put", True), None, True), words)
 
     def test_large_histories(self):
         kinds = set()
